@@ -1,0 +1,1 @@
+"""Heirsback: what a library of values gives back to subclasses that nobody has written yet."""
