@@ -1,4 +1,4 @@
-"""Where the names of the interface are defined, and that equal calls do not disturb each other."""
+"""Where the classes of the interface are defined, and with which methods."""
 
 import ast
 import pathlib
