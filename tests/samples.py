@@ -1,6 +1,7 @@
 """Libraries and values that several tests use."""
 
 from heirsback.library import Library
+from heirsback.world import World
 
 PAIR = """library Pair
 needs x
@@ -34,12 +35,17 @@ SMALL = "library A\nneeds b\n- by named"
 
 # Values of every kind, none of which is a text that could be meant.
 OTHER_VALUES = (
-    0, 1, -1, 10 ** 29, True, False, None, "", " ", "x y", [], ["x"], [[]], (), ("x",), ("Pair", ["x"]), [None, (1, [2])],
+    0, 1, -1, 10 ** 29, 1 - 10 ** 30, True, False, None, "", " ", "x y", "x" * 3000, [], ["x"], [[]], (), ("x",),
+    ("Pair", ["x"]), [None, (1, [2])], [[[[[[[["x"]]]]]]]], (((((((((),),),),),),),),), list(range(600)), ("Pair",) * 600,
 )
 
 
 def pair():
     return Library.read(PAIR)
+
+
+def pair_world(*lines):
+    return World.of(pair(), *lines)
 
 
 def text_of(lines):

@@ -1,6 +1,8 @@
 """Where the classes of the interface are defined, and with which methods."""
 
 import ast
+import importlib
+import inspect
 import pathlib
 import unittest
 
@@ -19,6 +21,19 @@ CLASSES = {
             "hook_of", "__contains__", "__len__", "__str__", "__eq__",
         ],
     },
+    "values": {
+        "Value": ["__init__", "numbers", "missing", "stale", "state", "__contains__", "__bool__", "__eq__"],
+    },
+    "steps": {
+        "Step": ["fates", "__contains__", "__bool__"],
+    },
+    "expressions": {
+        "Expression": [
+            "leaf", "asked", "read", "leaves", "signs", "__add__", "__sub__", "__mul__", "__floordiv__", "__and__", "__or__",
+            "__xor__", "__lshift__", "__rshift__", "__neg__", "__pos__", "__invert__", "__abs__", "__rmul__", "__pow__", "__len__",
+            "__str__", "__eq__",
+        ],
+    },
     "errors": {
         name: []
         for name in (
@@ -33,6 +48,31 @@ DECORATED = {
     ("world", "World", "read"): "classmethod",
     ("world", "World", "of"): "classmethod",
     ("world", "World", "lines"): "property",
+    ("values", "Value", "missing"): "property",
+    ("values", "Value", "stale"): "property",
+    ("values", "Value", "state"): "property",
+    ("expressions", "Expression", "leaf"): "staticmethod",
+    ("expressions", "Expression", "asked"): "staticmethod",
+    ("expressions", "Expression", "read"): "classmethod",
+}
+# The parameters of what is called, as the interface writes them.
+CALLS = {
+    ("library", "Library.read"): "(text)",
+    ("library", "Library.makers"): "(arity, *, hook=True)",
+    ("library", "Library.with_maker"): "(self, sign, maker)",
+    ("world", "World.read"): "(library, text)",
+    ("world", "World.of"): "(library, *lines)",
+    ("world", "World.belongs"): "(self, one, other)",
+    ("world", "World.nearest"): "(self, one, other)",
+    ("values", "Value"): "(world, name, numbers)",
+    ("values", "by_position"): "(world, name, *numbers)",
+    ("values", "by_names"): "(world, name, **numbers)",
+    ("virtues", "check_virtues"): "(words)",
+    ("steps", "step"): "(world, sign, *operands, start=1000)",
+    ("steps", "request"): "(world, word, name, *, start=1000)",
+    ("expressions", "Expression.leaf"): "(label, name)",
+    ("expressions", "Expression.asked"): "(name, word)",
+    ("expressions", "Expression.read"): "(text)",
 }
 
 
@@ -55,6 +95,16 @@ class Definitions(unittest.TestCase):
             with self.subTest(module=module, name=name, method=method):
                 found = [node for node in ast.walk(tree_of(module)) if isinstance(node, ast.FunctionDef) and node.name == method]
                 self.assertEqual([[mark.id for mark in node.decorator_list] for node in found], [[kind]])
+
+    def test_calls(self):
+        for (module, path), parameters in CALLS.items():
+            with self.subTest(module=module, path=path):
+                name, _, method = path.partition(".")
+                found = getattr(importlib.import_module(f"heirsback.{module}"), name)
+                self.assertEqual(found.__module__, f"heirsback.{module}")
+                if method:
+                    found = getattr(found, method)
+                self.assertEqual(str(inspect.signature(found)), parameters)
 
 
 if __name__ == "__main__":

@@ -1,0 +1,13 @@
+"""The virtues (point 16): what a step may lack."""
+
+from heirsback.errors import BadVirtue
+
+VIRTUES = ("runs", "alike", "deep", "whole", "placed", "carried", "fresh")
+
+
+def check_virtues(words):
+    """The chosen virtues, each once, in the order of point 16."""
+    for word in words:
+        if word not in VIRTUES:
+            raise BadVirtue(word)
+    return tuple([virtue for virtue in VIRTUES if virtue in words])
