@@ -17,7 +17,6 @@ class Expression:
     def __init__(self, parts):
         self._parts = tuple(parts)
         self._signs = tuple([sign for sign, _, _ in parts if sign != ""])
-        self._text = _written(parts)
 
     @classmethod
     def read(cls, text):
@@ -52,10 +51,10 @@ class Expression:
         return len(self._signs)
 
     def __str__(self):
-        return str(self._text)
+        return str(_written(self._parts))
 
     def __eq__(self, other):
-        return isinstance(other, Expression) and self._text == other._text
+        return isinstance(other, Expression) and self._parts == other._parts
 
     def __add__(self, other):
         return _joined("+", self, other)

@@ -87,17 +87,20 @@ def _lacks(world, changed, operands, own, value, fates):
 
 
 def _is_deep(world, own, other, name):
+    """Whether this is the name of the lower class, if one of the two belongs to the other."""
     if world.belongs(own, other):
         return name == own
     return name == other or not world.belongs(other, own)
 
 
 def _is_placed(world, changed, name, fates):
+    """Whether each new number is in its own field, and no parameter holds what was meant for another one."""
     if not all([fates[field] == ("new", field) for field in changed]):
         return False
     return all([fates[field][1] == field for field, _ in world.parameters(name) if field in fates])
 
 
 def _is_carried(world, operands, name, fates):
+    """Whether each added parameter that an operand has a number for holds such a number."""
     had = [field for field in world.added(name) if any([field in operand for operand in operands])]
     return all([field in fates and fates[field][0] in ("left", "right") and fates[field][1] == field for field in had])
