@@ -3,7 +3,7 @@
 from heirsback.errors import Lacking, NoClass, NoSign, Surplus, TooMany, Unknown
 from heirsback.making import Making, Missing
 from heirsback.values import Value
-from heirsback.virtues import VIRTUES
+from heirsback.virtues import VIRTUES, lacked
 
 
 class Step:
@@ -15,7 +15,7 @@ class Step:
         self.value = value
         self.outcome = outcome
         self._fates = dict(fates)
-        self._lacks = outcome[1] if value is not None else ("runs",)
+        self._lacks = lacked(outcome)
 
     def fates(self):
         """The fate of each present field of the result; nothing if the step fails."""

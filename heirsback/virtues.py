@@ -11,3 +11,9 @@ def check_virtues(words):
         if word not in VIRTUES:
             raise BadVirtue(word)
     return tuple([virtue for virtue in VIRTUES if virtue in words])
+
+
+def lacked(outcome):
+    """The virtues that a step with this outcome lacks."""
+    kind, told = outcome
+    return ("runs",) if kind == "fails" else told

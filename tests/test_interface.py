@@ -34,6 +34,21 @@ CLASSES = {
             "__str__", "__eq__",
         ],
     },
+    "runs": {
+        "Run": ["journal", "__len__", "end", "__bool__", "lacks", "result"],
+    },
+    "tables": {
+        "Table": ["__init__", "prices", "expression_of", "__contains__", "__len__", "lacking"],
+    },
+    "brackets": {
+        "Evenness": ["__bool__", "pair", "__len__"],
+    },
+    "families": {
+        "Family": [
+            "__init__", "of", "used_by", "__and__", "__or__", "__sub__", "is_within", "__contains__", "__iter__", "__len__",
+            "__bool__", "__eq__", "__repr__",
+        ],
+    },
     "errors": {
         name: []
         for name in (
@@ -51,6 +66,10 @@ DECORATED = {
     ("values", "Value", "missing"): "property",
     ("values", "Value", "stale"): "property",
     ("values", "Value", "state"): "property",
+    ("runs", "Run", "end"): "property",
+    ("brackets", "Evenness", "pair"): "property",
+    ("families", "Family", "of"): "classmethod",
+    ("families", "Family", "used_by"): "classmethod",
     ("expressions", "Expression", "leaf"): "staticmethod",
     ("expressions", "Expression", "asked"): "staticmethod",
     ("expressions", "Expression", "read"): "classmethod",
@@ -70,6 +89,18 @@ CALLS = {
     ("virtues", "check_virtues"): "(words)",
     ("steps", "step"): "(world, sign, *operands, start=1000)",
     ("steps", "request"): "(world, word, name, *, start=1000)",
+    ("runs", "run"): "(world, expression)",
+    ("tables", "Table"): "(world, *names)",
+    ("tables", "Table.expression_of"): "(self, state)",
+    ("tables", "Table.lacking"): "(self, virtue)",
+    ("tables", "is_right"): "(world, prices, *names)",
+    ("brackets", "bracketings"): "(sign, *leaves)",
+    ("brackets", "ends"): "(world, sign, *names, any_order=False)",
+    ("brackets", "even"): "(world, sign, *names)",
+    ("families", "Family"): "(words)",
+    ("families", "Family.of"): "(*words)",
+    ("families", "Family.used_by"): "(world)",
+    ("families", "Family.is_within"): "(self, other)",
     ("expressions", "Expression.leaf"): "(label, name)",
     ("expressions", "Expression.asked"): "(name, word)",
     ("expressions", "Expression.read"): "(text)",
@@ -105,6 +136,12 @@ class Definitions(unittest.TestCase):
                 if method:
                     found = getattr(found, method)
                 self.assertEqual(str(inspect.signature(found)), parameters)
+
+    def test_generators(self):
+        for module, name in (("runs", "journal"), ("brackets", "bracketings")):
+            found = [node for node in ast.walk(tree_of(module)) if isinstance(node, ast.FunctionDef) and node.name == name]
+            self.assertEqual(len(found), 1)
+            self.assertTrue([node for node in ast.walk(found[0]) if isinstance(node, (ast.Yield, ast.YieldFrom))])
 
 
 if __name__ == "__main__":
