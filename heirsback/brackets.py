@@ -3,7 +3,7 @@
 from heirsback.errors import NoClass, NoSign, TooMany
 from heirsback.expressions import Expression
 from heirsback.runs import run
-from heirsback.search import Search, label_of, start_classes
+from heirsback.search import Search, label_of, relabelled, start_classes
 
 MOST_LEAVES = 7
 MOST_IN_ANY_ORDER = 4
@@ -86,7 +86,7 @@ def even(world, sign, *names):
     triple = _uneven_triple(search, sign)
     if triple is None:
         return Evenness((), None)
-    operands = _relabelled([search.parts_of_state(state) for state in triple])
+    operands = relabelled([search.parts_of_state(state) for state in triple])
     first, second, third = operands
     mark = (sign, "", "")
     pair = (Expression([*first, *second, mark, *third, mark]), Expression([*first, *second, *third, mark, mark]))
@@ -121,18 +121,3 @@ def _is_even(joined, sign, triple):
     one = None if first is None else joined[(sign, first, right)]
     other = None if second is None else joined[(sign, left, second)]
     return one == other
-
-
-def _relabelled(operands):
-    """The same operands with another label for each leaf."""
-    many = 0
-    found = []
-    for parts in operands:
-        told = []
-        for sign, label, name in parts:
-            if label != "":
-                label = label_of(many)
-                many += 1
-            told.append((sign, label, name))
-        found.append(told)
-    return found

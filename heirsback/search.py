@@ -2,13 +2,13 @@
 
 from heirsback.errors import TooMany
 from heirsback.runs import FIRST_NUMBER
+from heirsback.spelling import LETTERS
 from heirsback.steps import request, step
 from heirsback.values import by_names
 from heirsback.virtues import lacked
 
 # No step needs more new numbers: a root has at most three parameters.
 MOST_NEW = 3
-LETTERS = "abcdefghijklmnopqrstuvwxyz"
 
 
 def label_of(at):
@@ -23,6 +23,21 @@ def label_of(at):
 def start_classes(world, names):
     """The chosen classes, each once; all of them if there are no names. The names must be known to be right."""
     return [name for name in world.names() if not names or name in names]
+
+
+def relabelled(operands):
+    """The same operands with another label for each leaf."""
+    many = 0
+    found = []
+    for parts in operands:
+        told = []
+        for sign, label, name in parts:
+            if label != "":
+                label = label_of(many)
+                many += 1
+            told.append((sign, label, name))
+        found.append(told)
+    return found
 
 
 class Search:

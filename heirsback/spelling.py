@@ -1,5 +1,7 @@
 """How names, numbers, signs and makers are written (points 4 and 6), and the words of hooks."""
 
+LETTERS = "abcdefghijklmnopqrstuvwxyz"
+
 LONGEST_NAME = 8
 LONGEST_NUMBER = 3
 

@@ -17,3 +17,8 @@ def lacked(outcome):
     """The virtues that a step with this outcome lacks."""
     kind, told = outcome
     return ("runs",) if kind == "fails" else told
+
+
+def lacks_any(outcome, chosen):
+    """Whether a step with this outcome lacks one of the chosen virtues."""
+    return any([virtue in chosen for virtue in lacked(outcome)])
