@@ -32,16 +32,17 @@ def cheapest(library, prices, family, virtues):
             raise BadMaker(key)
     if len(library) > MOST_OPERATIONS:
         raise TooMany("operations")
-    choosing = _Choosing(library, family, chosen)
+    choosing = Choosing(library, family, chosen)
     choices = [(0, ())]
     for sign in library:
         makers = [maker for maker in _allowed(library, sign) if maker in prices and choosing.fits({sign: maker})]
         choices = [(price + prices[maker], (*before, maker)) for price, before in choices for maker in makers]
     for price, makers in sorted(choices):
         if choosing.is_served(makers):
+            made = library
             for sign, maker in zip(library.signs(), makers):
-                library = library.with_maker(sign, maker)
-            return Choice(library, price)
+                made = made.with_maker(sign, maker)
+            return Choice(made, price)
     return None
 
 
@@ -49,7 +50,7 @@ def _allowed(library, sign):
     return Library.makers(library.arity(sign), hook=library.root_hook is not None)
 
 
-class _Choosing:
+class Choosing:
     """What is known of single operations and of pairs: each single one and each pair decide (fact 32)."""
 
     def __init__(self, library, family, chosen):

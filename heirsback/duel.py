@@ -17,10 +17,10 @@ from heirsback.values import by_names
 class Told:
     """A value that both worlds make alike, and the parts of an expression for it."""
 
-    def __init__(self, value, parts, steps):
+    def __init__(self, value, parts, many):
         self.value = value
-        self.parts = tuple(parts)
-        self.many = steps
+        self.expressed = tuple(parts)
+        self.many = many
 
 
 class Duel:
@@ -34,8 +34,8 @@ class Duel:
         self._chains = [chain_of(world.library, plan) for world in worlds]
         self._number = FIRST_NUMBER
 
-    def least(self, signs):
-        """A least expression with the last class that ends with one of these signs and tells apart; None without one."""
+    def least_expression(self, signs):
+        """A least expression that tells apart by one of these signs, with the last class in its last step; or None."""
         best = self._least_of(signs, [[self._leaf(name)] for name in self._names])
         if best is None:
             best = self._least_of(signs, [self._stock(at) for at in range(len(self._names))])
@@ -57,7 +57,7 @@ class Duel:
     def _operands(self, sign, stocks):
         """The operands that are tried, one of the last class among them; none for a request."""
         latest = stocks[-1]
-        arity = self._operations[sign][0].arity
+        arity = self._operations[sign][0].many_operands
         if arity == 0:
             return [()]
         if arity == 1:
@@ -88,7 +88,7 @@ class Duel:
             more = []
             for told in latest:
                 for sign in makers:
-                    more.extend(self._made(sign, told, name))
+                    more.extend(self._made_beside(sign, told, name))
             latest = []
             for told in more:
                 if told.value.state not in found:
@@ -98,15 +98,15 @@ class Duel:
 
     def _is_maker(self, sign, at):
         """Whether neither world calls a constructor here."""
-        pairs = zip(self._operations[sign], self._chains)
-        return all([way_on(operation, chain[at])[0] in WITHOUT_CONSTRUCTOR for operation, chain in list(pairs)])
+        ways = [way_on(operation, chain[at])[0] for operation, chain in zip(self._operations[sign], self._chains)]
+        return all([way in WITHOUT_CONSTRUCTOR for way in ways])
 
-    def _made(self, sign, told, name):
+    def _made_beside(self, sign, told, name):
         """What both worlds make alike of this value, with a leaf beside it."""
         beside = self._leaf(name)
         choices = ([()], [(told,)], [(told, beside), (beside, told)])
         found = []
-        for operands in choices[self._operations[sign][0].arity]:
+        for operands in choices[self._operations[sign][0].many_operands]:
             one, other = self._both(sign, operands, name)
             if one is not None and one == other:
                 found.append(Told(one, _parts(sign, operands, name), told.many + 1))
@@ -128,5 +128,5 @@ class Duel:
 def _parts(sign, operands, name):
     parts = []
     for told in operands:
-        parts.extend(told.parts)
+        parts.extend(told.expressed)
     return [*parts, (sign, "", "" if operands else name)]

@@ -36,7 +36,7 @@ class Hunt:
             for word in allowed_hooks(self._words):
                 found.extend([(plan, 1) for plan in self._short(operation, word, word)])
                 if word in WITH_PLACE:
-                    has_twin = operation.arity == 2
+                    has_twin = operation.many_operands == 2
                     found.extend([(plan, 2) for plan in long_plans(self._parameters(), self._words, word, has_twin)])
         else:
             found.extend([(plan, 0) for plan in self._short(operation, None, operation.way)])
@@ -51,9 +51,9 @@ class Hunt:
         found = {}
         for classes in _choices(operation, len(chain) - 1, first):
             trial = Trial(chain, operation, classes)
-            for states, is_stale in _states(trial, [stocks[at] for at in classes[:operation.arity]]):
-                steps = 1 + sum([stocks[at].price(state) for at, state in zip(classes, states)])
-                outcome = trial.outcome([state[0] for state in states], is_stale)
+            for states, is_stale in _states(trial, [stocks[at] for at in classes[:operation.many_operands]]):
+                steps = 1 + sum([stocks[at].steps_to(state) for at, state in zip(classes, states)])
+                outcome = trial.outcome_for([state[0] for state in states], is_stale)
                 if outcome not in found or steps < found[outcome][1]:
                     found[outcome] = (lines_of(plan), steps, plan, classes, states)
         return found
@@ -67,7 +67,7 @@ class Hunt:
         _, _, plan, classes, states = find
         names = self.world_of(find).names()
         stocks = self._stocks_of(plan)
-        if operation.arity == 0:
+        if operation.many_operands == 0:
             return Expression.asked(names[classes[0]], operation.sign)
         parts = []
         for at, state in zip(classes, states):
@@ -76,7 +76,7 @@ class Hunt:
 
     def _short(self, operation, hook, way):
         """The plans of one heir with this hook, where the operation makes its results by this way."""
-        has_twin = operation.arity == 2 or hook == "named"
+        has_twin = operation.many_operands == 2 or hook == "named"
         return short_plans(self._parameters(), self._words, hook, way in WITHOUT_CONSTRUCTOR, has_twin)
 
     def _parameters(self):
@@ -95,7 +95,7 @@ class Hunt:
 
 def _choices(operation, last, first):
     """The classes of the operands, or the asked class, among which is the last class of the chain."""
-    if operation.arity < 2:
+    if operation.many_operands < 2:
         return [(last,)]
     found = [(last, last)]
     for at in range(last):
@@ -106,7 +106,10 @@ def _choices(operation, last, first):
 
 
 def _states(trial, stocks):
-    """States of the operands for each case that makes a difference, as few steps as possible; whether the result is stale."""
+    """States of the operands for each case that makes a difference, and whether the result has stale fields.
+
+    Of the states that make no difference to each other the one with the fewest steps is taken.
+    """
     if not stocks:
         return [((), trial.is_stale_from(FRESH))]
     found = [((), False)]
@@ -125,9 +128,9 @@ def _made_parts(name, label, path):
     parts = [leaf]
     for operation in path:
         mark = (operation.sign, "", "")
-        if operation.arity == 0:
+        if operation.many_operands == 0:
             parts = [(operation.sign, "", name)]
-        elif operation.arity == 1:
+        elif operation.many_operands == 1:
             parts = [*parts, mark]
         elif operation.target == "other":
             parts = [leaf, *parts, mark]

@@ -11,8 +11,8 @@ class Operation:
 
     def __init__(self, library, sign):
         self.sign = sign
-        self.arity = arity_of(sign)
-        self.changed = library.changed(sign)
+        self.many_operands = arity_of(sign)
+        self.new_fields = library.changed(sign)
         way, _, target = library.maker_of(sign).partition(" ")
         self.way = way
         self.target = target
@@ -33,19 +33,19 @@ class Link:
         # The numbers of added parameters without and with a default, and of both.
         self.needs = needs
         self.takes = takes
-        self.added = needs + takes
+        self.many_added = needs + takes
         # Whether there are fields that the root does not have.
         self.is_wider = is_wider
         # The place and the word of the hook, or None.
         self.hook = hook
-        self.rules = rules
+        self.ruled = rules
         # The rules of fields that the root has, and those of its parameters among them.
         self.root_mask, self.parameter_mask = masks
 
     def touched(self, changed):
         """The rules whose field, or what it is kept of or tied to, is one of these parameters."""
         found = 0
-        for at, (field, source) in enumerate(self.rules):
+        for at, (field, source) in enumerate(self.ruled):
             if field in changed or source in changed:
                 found |= 1 << at
         return found
@@ -54,7 +54,7 @@ class Link:
         """The class below with these members."""
         free = self.free
         needs, takes, is_wider, hook = self.needs, self.takes, self.is_wider, self.hook
-        rules = list(self.rules)
+        rules = list(self.ruled)
         root_mask, parameter_mask = self.root_mask, self.parameter_mask
         for member in members:
             kind = member[0]
@@ -90,7 +90,7 @@ def chain_of(library, plan):
 
 
 def way_on(operation, link):
-    """The way of the operation where this is the left operand's class or the asked class; its target; the place of its row."""
+    """The way of the operation on this class, the left operand's or the asked one; its target; the place of its row."""
     if operation.way == "hook":
         place, word = link.hook
         return word, "own", place

@@ -37,11 +37,11 @@ def parted(one, other, family):
     signs = [sign for sign in one if _is_unlike(sign, libraries)]
     operations = {sign: tuple([Operation(library, sign) for library in libraries]) for sign in one}
     best = None
-    for plan in sorted(_plans(libraries, operations, signs, family.words), key=lambda row: lines_of(row)):
+    for plan in sorted(_plans(libraries, operations, signs, family.words), key=lines_of):
         if best is not None and lines_of(plan) > best.one.lines:
             break
         worlds = [World.read(library, text_of(library, plan)) for library in libraries]
-        expression = Duel(worlds, plan, operations).least(signs)
+        expression = Duel(worlds, plan, operations).least_expression(signs)
         if expression is not None and (best is None or len(expression) < len(best.expression)):
             best = Parting(worlds[0], worlds[1], expression)
     return best
@@ -60,7 +60,7 @@ def _plans(libraries, operations, signs, words):
     if not signs:
         return []
     parameters = libraries[0].root_parameters
-    has_pairs = any([operations[sign][0].arity == 2 for sign in signs])
+    has_pairs = any([operations[sign][0].many_operands == 2 for sign in signs])
     found = [(), *short_plans(parameters, words, None, True, has_pairs)]
     hooked = [sign for sign in operations if "hook" in [operation.way for operation in operations[sign]]]
     if any([operations[sign][0].way != operations[sign][1].way for sign in hooked]):

@@ -33,7 +33,7 @@ class Stock:
                     found.append(told)
         return found
 
-    def price(self, state):
+    def steps_to(self, state):
         """The least number of steps after which a value of the class is in the state."""
         return self.made[state][0]
 
@@ -51,7 +51,7 @@ class Stock:
 def result_state(link, operation, state):
     """The state of what a copy or a value without constructor is in, from a source of the class in this state."""
     missing, stale = state
-    stale |= link.touched(operation.changed)
+    stale |= link.touched(operation.new_fields)
     if way_on(operation, link)[0] == "bare":
         return link.is_wider, stale & link.parameter_mask
-    return missing, stale & link.root_mask if missing else stale
+    return missing, (stale & link.root_mask if missing else stale)

@@ -13,15 +13,16 @@ class Trial:
 
     def __init__(self, chain, operation, classes):
         self._operation = operation
-        self._operands = [chain[at] for at in classes] if operation.arity else []
+        self._links = [chain[at] for at in classes] if operation.many_operands else []
         own, other = classes[0], classes[-1]
-        self.way, target, place = way_on(operation, chain[own])
+        self._way, target, place = way_on(operation, chain[own])
         made, self.source = _target(target, own, other)
-        if self.way == "named":
+        if self._way == "named":
             made = place
-        self._made = chain[made]
+        self._result = chain[made]
         # The class whose parameters are passed.
-        self._row = chain[made] if self.way == "renew" else chain[place]
+        self._place = chain[made] if self._way == "renew" else chain[place]
+        self._takes_all = all([field in self._result.free for field in operation.new_fields])
         self._lacks = []
         if own == other and made != own:
             self._lacks.append("alike")
@@ -29,25 +30,25 @@ class Trial:
             self._lacks.append("deep")
         self._reason = self._failure()
 
-    def outcome(self, missing, is_stale):
+    def outcome_for(self, missing, is_stale):
         """The outcome for operands that are missing fields or are not, and a result with stale fields or without."""
         is_source_missing = missing[self.source] if missing else False
-        if self.way in WITHOUT_CONSTRUCTOR:
-            is_whole = not (self._made.is_wider if self.way == "bare" else is_source_missing)
-            kept = self._made.added if is_whole else 0
+        if self._way in WITHOUT_CONSTRUCTOR:
+            is_whole = not (self._result.is_wider if self._way == "bare" else is_source_missing)
+            kept = self._result.many_added if is_whole else 0
             return self._told(is_whole, True, missing, kept, is_stale)
-        if is_source_missing and self._row.added:
+        if is_source_missing and self._place.many_added:
             return ("fails", "missing")
         if self._reason is not None:
             return ("fails", self._reason)
         # Where a parameter is gone, the call by position shifts all that come behind it.
-        is_shifted = len(self._row.free) > len(self._made.free)
-        is_placed = not is_shifted and all([field in self._made.free for field in self._operation.changed])
-        return self._told(True, is_placed, missing, 0 if is_shifted else self._row.added, False)
+        is_shifted = len(self._place.free) > len(self._result.free)
+        kept = 0 if is_shifted else self._place.many_added
+        return self._told(True, self._takes_all and not is_shifted, missing, kept, False)
 
     def is_stale_from(self, state):
         """Whether the result has stale fields, if the source is in this state."""
-        return self.way in WITHOUT_CONSTRUCTOR and result_state(self._made, self._operation, state)[1] != 0
+        return self._way in WITHOUT_CONSTRUCTOR and result_state(self._result, self._operation, state)[1] != 0
 
     def _told(self, is_whole, is_placed, missing, kept, is_stale):
         """The outcome where so many of the added parameters of the result, the first ones, are carried."""
@@ -56,8 +57,8 @@ class Trial:
             lacks.append("whole")
         if not is_placed:
             lacks.append("placed")
-        for link, is_missing in zip(self._operands, missing):
-            if not is_missing and min(link.added, self._made.added) > kept:
+        for link, is_missing in zip(self._links, missing):
+            if not is_missing and min(link.many_added, self._result.many_added) > kept:
                 lacks.append("carried")
                 break
         if is_stale:
@@ -66,16 +67,16 @@ class Trial:
 
     def _failure(self):
         """Why the constructor fails; None if it does not."""
-        if self.way in WITHOUT_CONSTRUCTOR or self.way == "named":
+        if self._way in WITHOUT_CONSTRUCTOR or self._way == "named":
             return None
-        gone = len(self._row.free) - len(self._made.free)
-        needs = self._made.needs - self._row.needs
-        takes = self._made.takes - self._row.takes
-        if self.way == "call":
+        gone = len(self._place.free) - len(self._result.free)
+        needs = self._result.needs - self._place.needs
+        takes = self._result.takes - self._place.takes
+        if self._way == "call":
             if needs + takes < gone:
                 return "surplus"
             return "lacking" if needs > gone else None
-        if gone or (self.way == "renew" and not all([field in self._made.free for field in self._operation.changed])):
+        if gone or (self._way == "renew" and not self._takes_all):
             return "unknown"
         return "lacking" if needs else None
 

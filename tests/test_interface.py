@@ -49,6 +49,16 @@ CLASSES = {
             "__bool__", "__eq__", "__repr__",
         ],
     },
+    "atlas": {
+        "Entry": ["lines", "steps"],
+        "Verdict": ["__bool__", "__len__"],
+    },
+    "choosing": {
+        "Choice": [],
+    },
+    "parting": {
+        "Parting": [],
+    },
     "errors": {
         name: []
         for name in (
@@ -66,6 +76,8 @@ DECORATED = {
     ("values", "Value", "missing"): "property",
     ("values", "Value", "stale"): "property",
     ("values", "Value", "state"): "property",
+    ("atlas", "Entry", "lines"): "property",
+    ("atlas", "Entry", "steps"): "property",
     ("runs", "Run", "end"): "property",
     ("brackets", "Evenness", "pair"): "property",
     ("families", "Family", "of"): "classmethod",
@@ -89,6 +101,14 @@ CALLS = {
     ("virtues", "check_virtues"): "(words)",
     ("steps", "step"): "(world, sign, *operands, start=1000)",
     ("steps", "request"): "(world, word, name, *, start=1000)",
+    ("atlas", "atlas"): "(library, sign, family)",
+    ("atlas", "serves"): "(library, family, virtues)",
+    ("greatest", "breakers"): "(library, virtues)",
+    ("greatest", "greatest"): "(library, virtues)",
+    ("choosing", "fitting"): "(library, sign, family, virtues)",
+    ("choosing", "cheapest"): "(library, prices, family, virtues)",
+    ("parting", "check_comparable"): "(one, other)",
+    ("parting", "parted"): "(one, other, family)",
     ("runs", "run"): "(world, expression)",
     ("tables", "Table"): "(world, *names)",
     ("tables", "Table.expression_of"): "(self, state)",
