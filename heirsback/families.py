@@ -56,5 +56,4 @@ class Family:
         return isinstance(other, Family) and self.words == other.words
 
     def __repr__(self):
-        told = ", ".join(self.words)
-        return f"Family({told})"
+        return f"Family({', '.join(self.words)})"

@@ -60,8 +60,14 @@ def is_world(library, lines):
     return True
 
 
-def small_worlds(library, most):
-    """All worlds of up to this many lines, but for names and numbers."""
+def licence_of(line):
+    """The licence that a line needs; None for the line of an heir."""
+    words = line.split()
+    return None if words[0] == "heir" else words[words[0] == "hook"]
+
+
+def small_worlds(library, most, words=LICENCES):
+    """All worlds of up to this many lines that use these licences only, but for names and numbers."""
     found = [[]]
     latest = [[]]
     for at in range(most):
@@ -69,7 +75,8 @@ def small_worlds(library, most):
         for lines in latest:
             classes = [library.name] + [line.split()[1] for line in lines if line.startswith("heir")]
             more = [f"heir {'ABCDEFGH'[len(classes) - 1]} of {base}" for base in classes]
-            longer += [lines + [line] for line in more + members(library, lines, at)]
+            more += [line for line in members(library, lines, at) if licence_of(line) in words]
+            longer += [lines + [line] for line in more]
         latest = [lines for lines in longer if is_world(library, lines)]
         found += latest
     return [World.of(library, *lines) for lines in found]

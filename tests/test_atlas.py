@@ -58,8 +58,8 @@ def best_of(rows, family):
 
 
 class AgainstAllSmallWorlds(unittest.TestCase):
-    def check(self, library, most, families):
-        rows = [(set(world.licences()), world.lines, outcomes_of(world)) for world in small_worlds(library, most)]
+    def check(self, library, most, families, words=LICENCES):
+        rows = [(set(world.licences()), world.lines, outcomes_of(world)) for world in small_worlds(library, most, words)]
         for family in families:
             wanted = best_of(rows, family)
             found = {}
@@ -81,6 +81,16 @@ class AgainstAllSmallWorlds(unittest.TestCase):
             library = library_of(operation(sign, arity, ["y"], maker), *others, hook="renew")
             self.check(library, 2, [NONE, *SINGLE, *PAIRS[::4], ALL])
 
+    def test_some_beside_hooks_and_copies_of_the_right_operand(self):
+        families = [NONE, *SINGLE, Family.of("copy", "keeps"), Family.of("fixes", "takes"), Family.of("ties", "copy"), ALL]
+        begin = "library Root\nneeds x\nneeds y\nhook renew\nneg changes x by hook\n"
+        for sign in ("pos by copy own", "+ by copy deeper", "pos changes y by bare own", "pos by renew own"):
+            self.check(Library.read(begin + sign), 3, families)
+        library = Library.read("library Root\nneeds x\nneeds y\nabs by bare own\n- changes y by copy other\nneg by copy own")
+        self.check(library, 3, families)
+        entry = {each.outcome: each for each in atlas(library, "neg", Family.of("fixes", "takes"))}[("makes", ("whole", "fresh"))]
+        self.assertEqual((entry.lines, entry.steps), (3, 3))
+
     def test_each_hook(self):
         for hook in (*HOOKS, "bare"):
             library = Library.read(f"library Root\nneeds x\nneeds y\nhook {hook}\nneg changes x by hook\n- changes y by hook")
@@ -91,6 +101,26 @@ class AgainstAllSmallWorlds(unittest.TestCase):
             hooks = "" if hook is None else f"hook {hook}\n"
             library = Library.read(f"library Root\nneeds x\n{hooks}+ changes x by {maker}")
             self.check(library, 4, [NONE, *SINGLE, ALL])
+
+    def test_places_of_hooks(self):
+        """Hooks that pass the parameters of their place to classes below, in worlds of up to five lines."""
+        begin = "library Root\nneeds x\nneeds y\nhook renew\n"
+        neg, plus = begin + "neg changes x by hook", begin + "+ changes x by hook"
+        for text, words in (
+            (neg, ["names", "fixes", "takes"]), (neg, ["call", "fixes", "takes"]), (neg, ["call", "ties", "needs"]),
+            (plus, ["call", "takes"]), (plus, ["names", "needs"]), (plus + "\nneg by bare own", ["call", "takes"]),
+        ):
+            families = [Family(some) for many in range(4) for some in itertools.combinations(words, many)]
+            self.check(Library.read(text), 5, families, words)
+
+    def test_members_beside_such_a_hook(self):
+        library = Library.read("library Root\nneeds x\nneeds y\nhook renew\nneg changes x by hook")
+        # The new x is lost where the hook stands, what the class below takes gets its default.
+        outcome = ("makes", ("placed", "carried"))
+        for gone in ("fixes", "ties"):
+            self.assertEqual(told(atlas(library, "neg", Family.of("names", gone, "takes")))[outcome], (5, 1))
+            self.assertEqual(told(atlas(library, "neg", Family.of("call", gone, "takes")))[outcome], (5, 1))
+        self.assertNotIn(outcome, told(atlas(library, "neg", Family.of("names", "fixes", "needs", "keeps"))))
 
     def test_drawn_libraries(self):
         rnd = random.Random(3)

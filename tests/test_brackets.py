@@ -8,6 +8,7 @@ from heirsback.errors import NoClass, NoSign, TooMany
 from heirsback.expressions import Expression
 from heirsback.library import Library
 from heirsback.runs import run
+from heirsback.search import label_of
 from heirsback.spelling import BINARY_SIGNS
 from heirsback.world import World
 from samples import OTHER_VALUES, pair_world
@@ -76,6 +77,13 @@ class Bracketings(unittest.TestCase):
         self.assertIsInstance(next(told), Expression)
         self.assertEqual(len(list(told)), 131)
         self.assertEqual([str(one) for one in bracketings("-", Expression.leaf("zz", "Low"))], ["zz:Low"])
+
+
+class Labels(unittest.TestCase):
+    def test_labels(self):
+        told = {0: "a", 1: "b", 25: "z", 26: "aa", 27: "ab", 51: "az", 52: "ba", 701: "zz", 702: "aaa"}
+        self.assertEqual({at: label_of(at) for at in told}, told)
+        self.assertEqual(len({label_of(at) for at in range(2000)}), 2000)
 
 
 class Ends(unittest.TestCase):

@@ -146,6 +146,17 @@ class Cheapest(unittest.TestCase):
                 for words in ([], ["takes"], ["takes", "fixes"], ["keeps", "copy"], ["takes", "call", "renew"]):
                     self.check(library, prices, Family(words), virtues)
 
+    def test_a_hook_that_spoils_what_another_maker_reads(self):
+        prices = {"hook": 0, "renew deeper": 1, "copy own": 3, "copy deeper": 5}
+        family = Family.of("takes")
+        # Alone, each of the cheapest two is served; the second one reads what the first one leaves out.
+        found = self.check(library_of("+ by named", "neg by named", hook="bare"), prices, family, ["runs", "deep"])
+        self.assertEqual([found.library.maker_of(sign) for sign in found.library], ["renew deeper", "copy own"])
+        found = self.check(library_of("+ by named", "neg by named", hook="renew"), prices, family, ["runs", "deep"])
+        self.assertEqual([found.library.maker_of(sign) for sign in found.library], ["renew deeper", "hook"])
+        bare = {"bare own": 0, "renew deeper": 1, "copy own": 3, "copy deeper": 5, "call own": 2}
+        self.check(library_of("+ by named", "neg by named", "make zero by named"), bare, family, ["runs", "deep"])
+
     def test_prices(self):
         library = library_of("+ by named", "neg by named")
         # The maker that stands there has no price.

@@ -265,6 +265,16 @@ class Parted(unittest.TestCase):
         self.assertIsNone(self.check(library_of("neg by hook", hook="renew"), library_of("neg by renew own", hook="call"), NONE))
         self.assertEqual(self.check(library_of("neg by hook", hook="renew"), library_of("neg by renew own"), Family.of("named")), (3, 1))
 
+    def test_hooks_that_copy(self):
+        begin = "library Root\nneeds x\nhook renew\n"
+        one, other = Library.read(begin + "neg changes x by hook"), Library.read(begin + "neg changes x by renew own")
+        self.assertEqual(self.against_worlds(one, other, 3, [Family.of("copy", "keeps")]), [(3, 1)])
+        # The hook is the same in both libraries, but serves to make values with stale fields.
+        begin += "neg changes x by hook\npos by "
+        one, other = Library.read(begin + "renew own"), Library.read(begin + "copy own")
+        families = [Family.of("copy", "keeps"), Family.of("copy"), Family.of("keeps"), Family.of("copy", "takes"), ALL]
+        self.assertEqual(self.against_worlds(one, other, 3, families), [(3, 2), None, None, None, (3, 2)])
+
     def test_makers_that_make_the_same(self):
         one, other = library_of("+ by call own"), library_of("+ by names own")
         self.assertIsNone(self.check(one, other, Family.of("needs", "takes", "keeps")))
