@@ -8,10 +8,9 @@ the worlds apart, it does so with a leaf in the place of one of them.
 from heirsback.expressions import Expression
 from heirsback.links import chain_of, way_on
 from heirsback.plans import WITHOUT_CONSTRUCTOR
-from heirsback.runs import FIRST_NUMBER
+from heirsback.runs import FIRST_NUMBER, value_of_leaf
 from heirsback.search import MOST_NEW, relabelled
 from heirsback.steps import request, step
-from heirsback.values import by_names
 
 
 class Told:
@@ -72,11 +71,9 @@ class Duel:
 
     def _leaf(self, name):
         """A value with numbers of its own. What it is called is no matter until the expression is told."""
-        world = self._worlds[0]
-        fields = [field for field, _ in world.parameters(name)]
-        numbers = {field: self._number + at for at, field in enumerate(fields)}
-        self._number += len(fields)
-        return Told(by_names(world, name, **numbers), [("", "a", name)], 0)
+        value = value_of_leaf(self._worlds[0], name, self._number)
+        self._number += len(self._worlds[0].parameters(name))
+        return Told(value, [("", "a", name)], 0)
 
     def _stock(self, at):
         """A value of the class for each state into which both worlds bring it alike, the least steps first."""

@@ -1,6 +1,6 @@
 """The heirs that are tried (fact 31): chains of heirs, each one below the one before, with few members.
 
-A plan is a tuple of heirs, a heir a tuple of members, a member a tuple of words without what makes no
+A plan is a tuple of heirs, an heir a tuple of members, a member a tuple of words without what makes no
 difference: the name of a new field and the number. So ("takes",) stands for a line `takes F N`.
 """
 
@@ -58,7 +58,7 @@ def short_plans(parameters, words, hook, is_full, has_twin):
 
 
 def long_plans(parameters, words, hook, has_twin):
-    """Plans of a heir with the hook and at most one other member, one below it with members, and perhaps one more."""
+    """Plans of an heir with the hook and at most one other member, one below it with members, and perhaps one more."""
     found = []
     for first in heirs(parameters, (), words, False):
         if len(first) > 1:

@@ -91,8 +91,13 @@ def _labelled(world, expression):
     known = {}
     number = FIRST_NUMBER
     for label, name in expression.leaves():
-        fields = [field for field, _ in world.parameters(name)]
-        numbers = {field: number + at for at, field in enumerate(fields)}
-        known[label] = by_names(world, name, **numbers)
-        number += len(fields)
+        known[label] = value_of_leaf(world, name, number)
+        number += len(world.parameters(name))
     return known, number
+
+
+def value_of_leaf(world, name, start):
+    """A value of the class with a number for each parameter, from this one on."""
+    fields = [field for field, _ in world.parameters(name)]
+    numbers = {field: start + at for at, field in enumerate(fields)}
+    return by_names(world, name, **numbers)

@@ -1,10 +1,9 @@
 """The states that values come into in one world, each with a least expression (points 19 and 20)."""
 
 from heirsback.errors import TooMany
-from heirsback.runs import FIRST_NUMBER
+from heirsback.runs import FIRST_NUMBER, value_of_leaf
 from heirsback.spelling import LETTERS
 from heirsback.steps import request, step
-from heirsback.values import by_names
 from heirsback.virtues import lacked
 
 # No step needs more new numbers: a root has at most three parameters.
@@ -81,10 +80,9 @@ class Search:
 
     def _offer_starts(self, starts):
         for name in starts:
-            fields = [field for field, _ in self._world.parameters(name)]
-            numbers = {field: self._number + at for at, field in enumerate(fields)}
-            self._number += len(fields)
-            self._offer(by_names(self._world, name, **numbers), 0, ("", name, ()))
+            value = value_of_leaf(self._world, name, self._number)
+            self._number += len(self._world.parameters(name))
+            self._offer(value, 0, ("", name, ()))
         for sign in self._arity:
             if self._arity[sign] == 0:
                 for name in starts:
