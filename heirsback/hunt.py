@@ -118,7 +118,7 @@ def _states(trial, stocks):
         for state in stock.made:
             is_stale = at == trial.source and trial.is_stale_from(state)
             cases.setdefault((state[0], is_stale), state)
-        found = [((*states, cases[case]), is_stale or case[1]) for states, is_stale in found for case in cases]
+        found = [((*states, cases[case]), was_stale or case[1]) for states, was_stale in found for case in cases]
     return found
 
 
