@@ -36,7 +36,8 @@ class Verdict:
         return self.entry is None
 
     def __len__(self):
-        return len(range(self._many))
+        # Where objects are iterated over, a length is not taken of a range itself.
+        return len(list(range(self._many)))
 
 
 def atlas(library, sign, family):

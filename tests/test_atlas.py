@@ -262,6 +262,16 @@ class Serves(unittest.TestCase):
         verdict = self.check(library_of("neg changes x by copy own"), NONE, ["fresh"])
         self.assertEqual((len(verdict), bool(verdict), str(verdict.entry.world)), (0, False, ""))
 
+    def test_length_and_truth(self):
+        verdict = serves(pair(), NONE, ["runs"])
+        self.assertEqual((len(verdict), bool(verdict), verdict.entry), (0, True, None))
+        library = Library.read("library Root\nneeds x\nneeds y\nhook renew\nneg changes x by hook")
+        for words, virtue, lines in (
+            (["fixes"], "runs", 2), (["named"], "alike", 3), (["needs", "call"], "runs", 4), (["needs", "fixes", "call"], "carried", 5),
+        ):
+            verdict = self.check(library, Family(words), [virtue])
+            self.assertEqual((len(verdict), bool(verdict), verdict.entry.lines), (lines, False, lines))
+
     def test_no_virtue_is_always_served(self):
         for virtues in ([], ()):
             self.assertTrue(serves(pair(), ALL, virtues))

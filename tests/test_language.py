@@ -109,7 +109,9 @@ class EachFile(unittest.TestCase):
             for node in nodes(tree, ast.FunctionDef):
                 if node.name == "__len__":
                     for told in nodes(node, ast.Return):
-                        self.assertTrue(isinstance(told.value, ast.Constant) or told.value.func.id == "len")
+                        if not isinstance(told.value, ast.Constant):
+                            self.assertEqual(told.value.func.id, "len")
+                            self.assertFalse(ast.unparse(told.value).startswith("len(range("))
 
         self.each(check)
 
